@@ -1,0 +1,1 @@
+"""Stillmay: what still may come in a league."""

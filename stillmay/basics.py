@@ -1,0 +1,62 @@
+"""What integers, numbers, names and sequences are, and the checks that many calls share."""
+
+from stillmay.errors import BadSide, BadValue, TooMany
+
+LETTERS = "abcdefghijklmnopqrstuvwxyz"
+LONGEST_NAME = 8
+OUTCOMES = ("home", "draw", "away")
+
+
+def is_sequence(value):
+    """Whether it may stand where a sequence is expected; a string may not."""
+    return isinstance(value, (list, tuple))
+
+
+def is_integer(value):
+    """Whether it is an int, but neither True nor False."""
+    return isinstance(value, int) and not isinstance(value, bool)
+
+
+def is_number(value):
+    """Whether it is an integer from 0 on."""
+    return is_integer(value) and value >= 0
+
+
+def is_name(value):
+    """Whether it is a word of small letters that is not too long."""
+    # The length comes first: a long string need not be read.
+    if not isinstance(value, str) or not 1 <= len(value) <= LONGEST_NAME:
+        return False
+    return all([sign in LETTERS for sign in value])
+
+
+def are_names(values):
+    """Whether it is a sequence of names, none of them twice."""
+    if not is_sequence(values) or not all([is_name(value) for value in values]):
+        return False
+    return len(set(values)) == len(values)
+
+
+def outcomes_of(league):
+    """The outcomes that a game of the league can have, in their order."""
+    with_draws = league.scheme()[1] is not None
+    return tuple([outcome for outcome in OUTCOMES if with_draws or outcome != "draw"])
+
+
+def position(league, side):
+    """Where the side stands in the order of sides."""
+    if side not in league.sides():
+        raise BadSide(side)
+    return league.sides().index(side)
+
+
+def check_place(league, place):
+    """Raise BadValue(2) for what is no place in the league."""
+    if not is_integer(place) or not 1 <= place <= len(league.sides()):
+        raise BadValue(2)
+
+
+def check_left(league, most):
+    """Raise TooMany if more games than that are left."""
+    if len(league.left()) > most:
+        raise TooMany("games")

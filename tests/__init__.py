@@ -1,0 +1,1 @@
+"""The tests of Stillmay, one file for each part of the document."""

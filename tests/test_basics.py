@@ -1,0 +1,169 @@
+"""Points [1] and [3]: what holds for all calls."""
+
+import sys
+import unittest
+
+from stillmay import standings, ways
+from stillmay.errors import LeagueError
+from stillmay.leagues import League
+from tests.helper import ALL_RULES, EIGHT, OUTCOMES, PLAIN, TRIO, WITH_DRAWS, caught, deep, made, snapshot, with_left
+
+GAMES = [("ash", "elm", "home"), ("elm", "oak", "left"), ("oak", "ash", "draw"), ("oak", "elm", "left"),
+         ("ash", "oak", "off")]
+
+# Each function with the arguments behind the league, and what kind of value comes back.
+CALLS = (
+    (standings.points, {"side": "elm"}, int), (standings.wins, {"side": "elm"}, int),
+    (standings.away_wins, {"side": "elm"}, int), (standings.played, {"side": "elm"}, int),
+    (standings.points_among, {"side": "elm", "others": ("ash", "oak")}, int), (standings.order, {}, tuple),
+    (standings.place, {"side": "elm"}, int), (standings.table, {}, tuple), (standings.level, {}, tuple),
+    (ways.ended, {"ending": ("home", "away")}, League), (ways.endings_count, {}, int),
+    (ways.best_place, {"side": "elm"}, int), (ways.worst_place, {"side": "elm"}, int),
+    (ways.ending_to, {"side": "elm", "place": 2}, tuple), (ways.ending_below, {"side": "elm", "place": 2}, tuple),
+    (ways.sure, {"side": "elm", "place": 2}, bool), (ways.may, {"side": "elm", "place": 2}, bool),
+    (ways.needs, {"side": "elm", "place": 2}, int), (ways.least_with, {"side": "elm", "place": 2}, int),
+    (ways.deciders, {"side": "elm", "place": 2}, tuple), (ways.enders, {"side": "elm", "place": 2}, tuple),
+    (ways.scenarios, {"side": "elm"}, tuple),
+)
+
+
+def nested_calls():
+    """How many calls stand in each other here."""
+    frame, many = sys._getframe(), 0
+    while frame is not None:
+        frame, many = frame.f_back, many + 1
+    return many
+
+
+class KindsTest(unittest.TestCase):
+    def check_kind(self, value):
+        self.assertIn(value.__class__, (int, str, bool, tuple, None.__class__, League))
+        if isinstance(value, tuple):
+            for part in value:
+                self.check_kind(part)
+
+    def test_kinds_that_come_back(self):
+        for call, more, kind in CALLS:
+            with self.subTest(call=call):
+                found = call(made(games=GAMES), **more)
+                self.assertIs(kind, found.__class__)
+                self.check_kind(found)
+
+    def test_a_method_without_a_result_returns_none(self):
+        league = made(games=GAMES)
+        results = (league.enter(0, "home"), league.call_off(0), league.reopen(0), league.withdraw("ash"))
+        self.assertEqual((None,) * 4, results)
+
+
+class ArgumentsTest(unittest.TestCase):
+    def test_by_position_and_by_name(self):
+        for call, more, kind in CALLS:
+            with self.subTest(call=call):
+                league = made(games=GAMES)
+                self.assertEqual(call(league, *more.values()), call(league=league, **more))
+                mixed = dict(list(more.items())[::-1])
+                self.assertEqual(call(league, *more.values()), call(**mixed, league=league))
+
+    def test_methods_by_name(self):
+        league = League(rules=["points"], scheme=[3, 1, 0], sides=["ash", "elm"])
+        self.assertEqual(0, league.add_game(away="elm", home="ash"))
+        self.assertEqual(1, league.add_game("elm", away="ash"))
+        league.enter(outcome="draw", number=0)
+        league.call_off(number=1)
+        self.assertEqual((("ash", "elm", "draw"), ("elm", "ash", "off")), league.games())
+        league.reopen(number=1)
+        self.assertEqual((1,), league.left())
+        league.withdraw(side="elm")
+        self.assertEqual(("elm",), league.withdrawn())
+
+    def test_nothing_that_is_handed_in_is_changed(self):
+        for call, more, kind in CALLS:
+            for rules in (PLAIN, ("points", "among")):
+                league = made(rules=rules, games=GAMES)
+                before = snapshot(league)
+                handed = {name: list(value) if isinstance(value, tuple) else value for name, value in more.items()}
+                call(league, **handed)
+                self.assertEqual(before, snapshot(league), call)
+                for name, value in more.items():
+                    self.assertEqual(list(value) if isinstance(value, tuple) else value, handed[name])
+
+    def test_later_changes_have_no_effect(self):
+        league = made(games=GAMES)
+        ending = ["home", "away"]
+        done = ways.ended(league, ending)
+        ending[0] = "draw"
+        self.assertEqual("home", done.games()[1][2])
+
+    def test_equal_calls_on_equal_things_return_equal_results(self):
+        for call, more, kind in CALLS:
+            league, other = made(games=GAMES), made(games=GAMES[:3])
+            other.enter(1, "home")
+            other.add_game("oak", "elm")
+            other.add_game("ash", "oak")
+            other.call_off(4)
+            other.reopen(1)
+            self.assertEqual(league, other)
+            first = call(league, **more)
+            self.assertEqual(first, call(league, **more))
+            self.assertEqual(first, call(other, **more))
+            self.assertEqual(first, call(league.copy(), **more))
+
+
+class RaisingCallsTest(unittest.TestCase):
+    def test_a_call_that_raises_changes_nothing(self):
+        league = made(games=GAMES)
+        league.withdraw("ash")
+        before = snapshot(league)
+        calls = ((league.add_game, "elm", "no"), (league.add_game, "ash", "elm"), (league.add_game, "elm", "elm"),
+                 (league.enter, 9, "home"), (league.enter, 0, "home"), (league.enter, 1, "no"), (league.call_off, 0),
+                 (league.reopen, 2), (league.reopen, True), (league.withdraw, "ash"), (league.withdraw, ["elm"]),
+                 (standings.points, league, "no"), (standings.points_among, league, "elm", "no"),
+                 (ways.ended, league, ("home", "no")), (ways.sure, league, "elm", 4), (ways.needs, league, "no", 0))
+        for call in calls:
+            self.assertIsInstance(caught(*call), LeagueError, call)
+            self.assertEqual(before, snapshot(league))
+
+
+class LimitsTest(unittest.TestCase):
+    def test_calls_do_not_stand_deep_in_each_other(self):
+        crowded = made(EIGHT, games=[pair[:2] + (OUTCOMES[number % 3],) for number, pair in
+                                     enumerate(with_left(56).games() + with_left(24).games())])
+        league = with_left(8, rules=("points", "among", "away", "wins"))
+        pairs = with_left(6, rules=("points", "wins", "among"))
+        before = sys.getrecursionlimit()
+        sys.setrecursionlimit(nested_calls() + 200)
+        try:
+            for one in (crowded, league):
+                standings.order(one)
+                standings.level(one)
+                standings.table(one)
+            for call in (ways.sure, ways.may, ways.needs, ways.least_with):
+                call(league, "ash", 8)
+            ways.deciders(pairs, "ash", 1)
+            ways.enders(pairs, "ash", 1)
+            ways.scenarios(league, "ash")
+            ways.endings_count(with_left(56))
+            self.assertIsInstance(caught(ways.ended, league, deep(40)), LeagueError)
+        finally:
+            sys.setrecursionlimit(before)
+
+    def test_limits_of_point_3(self):
+        self.assertEqual(("a", "abcdefgh"), League(("a", "abcdefgh"), WITH_DRAWS, PLAIN).sides())
+        for sides in (("a",), EIGHT + ("pine",), ("a", "abcdefghi"), ("a", "")):
+            self.assertIsInstance(caught(League, sides, WITH_DRAWS, PLAIN), LeagueError)
+        full = made(TRIO, games=[("ash", "elm", "left")] * 80)
+        self.assertEqual(80, len(full.games()))
+        self.assertIsInstance(caught(full.add_game, "ash", "elm"), LeagueError)
+        self.assertIsNone(caught(ways.best_place, with_left(8), "ash"))
+        self.assertIsInstance(caught(ways.best_place, with_left(9), "ash"), LeagueError)
+
+    def test_leagues_of_two_and_of_eight_sides(self):
+        for sides in (EIGHT[:2], EIGHT):
+            for rules in ALL_RULES:
+                league = made(sides, rules=rules, games=[("ash", "elm", "left"), ("elm", "ash", "draw")])
+                self.assertEqual(sides, standings.order(league))
+                self.assertEqual(3, sum(ways.scenarios(league, "elm")))
+
+
+if __name__ == "__main__":
+    unittest.main()

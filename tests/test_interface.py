@@ -1,0 +1,56 @@
+"""The interface: names, arguments, and the files in which they are defined."""
+
+import importlib
+import inspect
+import unittest
+
+INTERFACE = {
+    "errors": {
+        "LeagueError": None, "BadValue": ("at",), "BadPaper": ("at",), "BadLine": ("at",), "BadGame": ("number",),
+        "BadSide": ("name",), "TooMany": ("word",), "NothingThere": ("word",),
+    },
+    "leagues": {"League": ("sides", "scheme", "rules")},
+    "standings": {
+        "points": ("league", "side"), "wins": ("league", "side"), "away_wins": ("league", "side"),
+        "played": ("league", "side"), "points_among": ("league", "side", "others"), "order": ("league",),
+        "place": ("league", "side"), "table": ("league",), "level": ("league",),
+    },
+    "ways": {
+        "ended": ("league", "ending"), "endings_count": ("league",), "best_place": ("league", "side"),
+        "worst_place": ("league", "side"), "ending_to": ("league", "side", "place"),
+        "ending_below": ("league", "side", "place"), "sure": ("league", "side", "place"),
+        "may": ("league", "side", "place"), "needs": ("league", "side", "place"),
+        "least_with": ("league", "side", "place"), "deciders": ("league", "side", "place"),
+        "enders": ("league", "side", "place"), "scenarios": ("league", "side"),
+    },
+}
+
+METHODS = {
+    "sides": (), "scheme": (), "rules": (), "add_game": ("home", "away"), "enter": ("number", "outcome"),
+    "call_off": ("number",), "reopen": ("number",), "withdraw": ("side",), "games": (), "left": (),
+    "withdrawn": (), "copy": (), "__eq__": None,
+}
+
+
+class InterfaceTest(unittest.TestCase):
+    def test_functions_and_classes(self):
+        for file_name, names in INTERFACE.items():
+            module = importlib.import_module("stillmay." + file_name)
+            for name, arguments in names.items():
+                with self.subTest(file=file_name, name=name):
+                    found = getattr(module, name)
+                    self.assertEqual(module.__name__, found.__module__)
+                    if arguments is not None:
+                        self.assertEqual(arguments, tuple(inspect.signature(found).parameters))
+
+    def test_methods_of_a_league(self):
+        module = importlib.import_module("stillmay.leagues")
+        for name, arguments in METHODS.items():
+            with self.subTest(name=name):
+                method = vars(module.League)[name]
+                if arguments is not None:
+                    self.assertEqual(("self",) + arguments, tuple(inspect.signature(method).parameters))
+
+
+if __name__ == "__main__":
+    unittest.main()
