@@ -5,6 +5,8 @@ from stillmay.errors import BadSide, BadValue, TooMany
 LETTERS = "abcdefghijklmnopqrstuvwxyz"
 LONGEST_NAME = 8
 OUTCOMES = ("home", "draw", "away")
+# Where all endings are walked through, no more games than these may be left.
+MOST_LEFT = 8
 
 
 def is_sequence(value):
@@ -60,3 +62,11 @@ def check_left(league, most):
     """Raise TooMany if more games than that are left."""
     if len(league.left()) > most:
         raise TooMany("games")
+
+
+def asked_place(league, side, place, most):
+    """The position of the side, behind the checks of calls that ask for a place with so many games left."""
+    at = position(league, side)
+    check_place(league, place)
+    check_left(league, most)
+    return at

@@ -109,6 +109,11 @@ def seated_games(league):
     return [(seat[home], seat[away], state) for home, away, state in league.games()]
 
 
+def left_pairs(league):
+    """The pairs (home, away) of the games that are left, as positions, in the sequence of these games."""
+    return [(home, away) for home, away, state in seated_games(league) if state == "left"]
+
+
 def walked(tally, pairs, outcomes, given):
     """Each ending of the games of these pairs (home, away), in their order, behind what is given.
 

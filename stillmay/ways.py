@@ -1,10 +1,9 @@
 """Ways of ending: what a side still may reach, and what it needs for it."""
 
-from stillmay.basics import check_left, check_place, is_sequence, outcomes_of, position
+from stillmay.basics import MOST_LEFT, asked_place, check_left, is_sequence, outcomes_of, position
 from stillmay.errors import BadValue
-from stillmay.tallies import Tally, seated_games, walked
+from stillmay.tallies import Tally, left_pairs, walked
 
-MOST_LEFT = 8
 MOST_LEFT_FOR_PAIRS = 6
 
 
@@ -40,7 +39,7 @@ def worst_place(league, side):
 
 def ending_to(league, side, place):
     """The first ending behind which the place is this one or better, or None."""
-    at = _asked_place(league, side, place, MOST_LEFT)
+    at = asked_place(league, side, place, MOST_LEFT)
     for ending, found, gained in _results(league, at):
         if found <= place:
             return ending
@@ -49,7 +48,7 @@ def ending_to(league, side, place):
 
 def ending_below(league, side, place):
     """The first ending behind which the place is worse than this one, or None."""
-    at = _asked_place(league, side, place, MOST_LEFT)
+    at = asked_place(league, side, place, MOST_LEFT)
     for ending, found, gained in _results(league, at):
         if found > place:
             return ending
@@ -68,7 +67,7 @@ def may(league, side, place):
 
 def needs(league, side, place):
     """The least number of points, of those that it may have, with which the place is sure, or None."""
-    at = _asked_place(league, side, place, MOST_LEFT)
+    at = asked_place(league, side, place, MOST_LEFT)
     reachable = []
     # The most points that were once not enough; as yet none were.
     short = -1
@@ -81,21 +80,21 @@ def needs(league, side, place):
 
 def least_with(league, side, place):
     """The least number of points that it has behind some ending that gives the place, or None."""
-    at = _asked_place(league, side, place, MOST_LEFT)
+    at = asked_place(league, side, place, MOST_LEFT)
     return min([gained for ending, found, gained in _results(league, at) if found <= place],
                default=None)
 
 
 def deciders(league, side, place):
     """The pairs (game, outcome) that make the place sure, if it is not sure as it stands."""
-    at = _asked_place(league, side, place, MOST_LEFT_FOR_PAIRS)
+    at = asked_place(league, side, place, MOST_LEFT_FOR_PAIRS)
     return _pairs_in_none(league, [ending for ending, found, gained in _results(league, at)
                                    if found > place])
 
 
 def enders(league, side, place):
     """The pairs (game, outcome) with which the place may not come any more, if it still may."""
-    at = _asked_place(league, side, place, MOST_LEFT_FOR_PAIRS)
+    at = asked_place(league, side, place, MOST_LEFT_FOR_PAIRS)
     return _pairs_in_none(league, [ending for ending, found, gained in _results(league, at)
                                    if found <= place])
 
@@ -123,18 +122,10 @@ def _asked(league, side):
     return at
 
 
-def _asked_place(league, side, place, most):
-    """The position of the side, behind the checks of calls that ask for a place."""
-    at = position(league, side)
-    check_place(league, place)
-    check_left(league, most)
-    return at
-
-
 def _results(league, at):
     """Behind each ending, in their order: the ending, the place of the side, its points."""
     tally = Tally(league)
-    pairs = [(home, away) for home, away, state in seated_games(league) if state == "left"]
+    pairs = left_pairs(league)
     outcomes = outcomes_of(league)
     for ending in walked(tally, pairs, outcomes, ()):
         yield ending, tally.place(at), tally.points(at)

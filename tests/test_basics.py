@@ -3,10 +3,11 @@
 import sys
 import unittest
 
-from stillmay import standings, ways
+from stillmay import checking, cuts, pairings, papers, standings, ways
 from stillmay.errors import LeagueError
 from stillmay.leagues import League
-from tests.helper import ALL_RULES, EIGHT, OUTCOMES, PLAIN, TRIO, WITH_DRAWS, caught, deep, made, snapshot, with_left
+from tests.helper import (ALL_RULES, EIGHT, OUTCOMES, PLAIN, TEN, TRIO, WITH_DRAWS, WITHOUT_DRAWS, caught, deep,
+                          made, snapshot, with_left)
 
 GAMES = [("ash", "elm", "home"), ("elm", "oak", "left"), ("oak", "ash", "draw"), ("oak", "elm", "left"),
          ("ash", "oak", "off")]
@@ -24,6 +25,9 @@ CALLS = (
     (ways.needs, {"side": "elm", "place": 2}, int), (ways.least_with, {"side": "elm", "place": 2}, int),
     (ways.deciders, {"side": "elm", "place": 2}, tuple), (ways.enders, {"side": "elm", "place": 2}, tuple),
     (ways.scenarios, {"side": "elm"}, tuple),
+    (papers.always_paper, {"side": "elm", "place": 3}, str),
+    (checking.paper_holds, {"side": "elm", "place": 3, "claim": "always", "paper": "bound\n"}, bool),
+    (pairings.met_in, {}, tuple), (pairings.next_round, {}, tuple),
 )
 
 
@@ -144,6 +148,35 @@ class LimitsTest(unittest.TestCase):
             ways.scenarios(league, "ash")
             ways.endings_count(with_left(56))
             self.assertIsInstance(caught(ways.ended, league, deep(40)), LeagueError)
+        finally:
+            sys.setrecursionlimit(before)
+
+    def test_calls_about_papers_cuts_and_pairings_neither(self):
+        league = made(EIGHT, games=[("ash", "elm", "left")] * 8)
+        full = made(EIGHT, WITHOUT_DRAWS, games=[("ash", "elm", "left")] * 80)
+        few = made(EIGHT, WITHOUT_DRAWS, games=[("ash", "elm", "left")] * 8)
+        met = [(one, other) for one in TEN[5:] for other in TEN[5:] if one != other]
+        before = sys.getrecursionlimit()
+        sys.setrecursionlimit(nested_calls() + 200)
+        try:
+            paper = papers.never_paper(league, "fig", 3)
+            self.assertIs(True, checking.paper_holds(league, "fig", 3, "never", paper))
+            chain = "".join(f"split {number}\n" for number in range(80)) + "bound\n" * 81
+            self.assertIs(True, checking.paper_holds(full, "fig", 8, "always", chain))
+            cuts.cut_against(full, "fig")
+            cuts.cut_holds(full, "fig", EIGHT[:7])
+            cuts.first_lot_ending(few, "fig")
+            for order in (TEN, TEN[::-1]):
+                for pairs in ((), met, met[:10]):
+                    paper = pairings.pairing_paper(order, pairs)
+                    self.assertIs(True, checking.pairing_holds(order, pairs, paper))
+                    pairings.pairing(order, pairs)
+                    pairings.barrier(order, pairs)
+            pairings.next_round(full)
+            self.assertIsInstance(caught(pairings.pairing, deep(40), ()), LeagueError)
+            self.assertIsInstance(caught(pairings.pairing, TEN, deep(40)), LeagueError)
+            self.assertIsInstance(caught(cuts.cut_holds, few, "fig", deep(40)), LeagueError)
+            self.assertIsInstance(caught(checking.paper_holds, few, "fig", 8, "always", deep(40)), LeagueError)
         finally:
             sys.setrecursionlimit(before)
 

@@ -23,6 +23,18 @@ INTERFACE = {
         "least_with": ("league", "side", "place"), "deciders": ("league", "side", "place"),
         "enders": ("league", "side", "place"), "scenarios": ("league", "side"),
     },
+    "papers": {"never_paper": ("league", "side", "place"), "always_paper": ("league", "side", "place")},
+    "checking": {
+        "paper_holds": ("league", "side", "place", "claim", "paper"), "pairing_holds": ("order", "met", "paper"),
+    },
+    "cuts": {
+        "cut_against": ("league", "side"), "cut_holds": ("league", "side", "sides"),
+        "first_lot_ending": ("league", "side"),
+    },
+    "pairings": {
+        "pairing": ("order", "met"), "barrier": ("order", "met"), "pairing_paper": ("order", "met"),
+        "met_in": ("league",), "next_round": ("league",),
+    },
 }
 
 METHODS = {
