@@ -234,7 +234,8 @@ class ErrorsTest(unittest.TestCase):
     def test_what_are_no_such_sides(self):
         league = race()
         before = snapshot(league)
-        values = (("oak",), ["ash", "oak"], ("ash", "ash"), ["ash", "elm", "ash"], ("no",), ("ash", "no"), ("ash", None),
+        values = (("oak",), ["ash", "oak"], ("ash", "ash"), ["ash", "elm", "ash"], ("no",), ("ash", "no"),
+                  ("ash", None),
                   ("ash", True), (["ash"],), [("ash",)], ("ash", ["elm"]), "ash", "", "oak", None, True, False, 0, 1,
                   -10 ** 30, deep(40), ("ash", deep(39)), ("Ash",), ("",), ("ash ",))
         for value in values:

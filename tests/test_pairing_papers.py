@@ -274,8 +274,9 @@ class SpoiltPapersTest(PairingCase):
         self.refused(0, ("a", "b"), (), "not a b by\n")
 
     def test_none_by(self):
-        for line in ("none by ", "none by elm", "none by elm ash", "none  by", " none by", "none", "none by\r", "None by",
-                     "none by fir", "none by no", "none by elm elm", "none by ash elm oak fir", "none by ash elm oak"):
+        for line in ("none by ", "none by elm", "none by elm ash", "none  by", " none by", "none", "none by\r",
+                     "None by", "none by fir", "none by no", "none by elm elm", "none by ash elm oak fir",
+                     "none by ash elm oak"):
             self.refused(0, FOUR, LONELY, line + "\n")
         for line in ("none by", "none by elm ", "none by  elm", "none by ash", "none by elm fir", "none by elm elm",
                      "none by fir elm", "none by Elm", "none by elm\t"):
@@ -334,7 +335,7 @@ class SpoiltPapersTest(PairingCase):
             if len(order) > 8:
                 continue
             dice = random.Random(seed)
-            words = ["none by", told_by("not %s %s by" % tuple(order[:2]), order[2:3]), "pair %s %s" % tuple(order[-2:])]
+            words = ["none by", told_by(f"not {order[0]} {order[1]} by", order[2:3]), f"pair {order[-2]} {order[-1]}"]
             for paper in spoilt_papers(pairing_paper(order, met).splitlines(), words, dice):
                 wrong = told_wrong(order, met, paper)
                 outcome[wrong is None] += 1
