@@ -7,6 +7,7 @@ program, so that the two can be compared on many leagues.
 import itertools
 import random
 import re
+import sys
 
 from stillmay.leagues import League
 
@@ -298,3 +299,11 @@ def expect(case, error, attribute, value, call, *args):
 def snapshot(league):
     """All that may be seen of a league."""
     return league.sides(), league.scheme(), league.rules(), league.games(), league.left(), league.withdrawn()
+
+
+def nested_calls():
+    """How many calls stand in each other here."""
+    frame, many = sys._getframe(), 0
+    while frame is not None:
+        frame, many = frame.f_back, many + 1
+    return many

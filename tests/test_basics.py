@@ -7,7 +7,7 @@ from stillmay import checking, cuts, pairings, papers, standings, ways
 from stillmay.errors import LeagueError
 from stillmay.leagues import League
 from tests.helper import (ALL_RULES, EIGHT, OUTCOMES, PLAIN, TEN, TRIO, WITH_DRAWS, WITHOUT_DRAWS, caught, deep,
-                          made, snapshot, with_left)
+                          made, nested_calls, snapshot, with_left)
 
 GAMES = [("ash", "elm", "home"), ("elm", "oak", "left"), ("oak", "ash", "draw"), ("oak", "elm", "left"),
          ("ash", "oak", "off")]
@@ -29,14 +29,6 @@ CALLS = (
     (checking.paper_holds, {"side": "elm", "place": 3, "claim": "always", "paper": "bound\n"}, bool),
     (pairings.met_in, {}, tuple), (pairings.next_round, {}, tuple),
 )
-
-
-def nested_calls():
-    """How many calls stand in each other here."""
-    frame, many = sys._getframe(), 0
-    while frame is not None:
-        frame, many = frame.f_back, many + 1
-    return many
 
 
 class KindsTest(unittest.TestCase):

@@ -11,8 +11,8 @@ from stillmay.errors import BadPaper, BadSide, BadValue
 from stillmay.papers import always_paper, never_paper
 from stillmay.ways import may, sure
 from tests.helper import (EIGHT, NO_STRINGS, TRIO, WITHOUT_DRAWS, as_text, caught, deep, drawn_league,
-                          expect, made, outcomes, snapshot, spoilt_papers, told_bound, told_end, told_left, told_lines,
-                          told_tree, with_left, with_state)
+                          expect, made, nested_calls, outcomes, snapshot, spoilt_papers, told_bound, told_end, told_left,
+                          told_lines, told_tree, with_left, with_state)
 
 CLAIMS = ("never", "always")
 # oak may win and draw level with ash, but is behind it by the lots.
@@ -192,7 +192,7 @@ class RightPapersTest(PaperCase):
         self.refused(0, crowded, "fig", 7, "always", as_text(["bound"]))
         text = "split 79\n" + as_text(["split 0"]) * 2
         self.refused(2, crowded, "fig", 8, "always", text)
-        # A tree of 9 games below each other, each node with all its kids: 29,524 lines are too many; so one of 8.
+        # A tree of nearly ten thousand lines: that of eight games, each node with all its kids.
         league = made(EIGHT, games=[("ash", "elm", "left")] * 40)
         text = never_paper(made(EIGHT, games=[("ash", "elm", "left")] * 8), "fig", 3)
         self.assertEqual(9841, len(told_lines(text)))
@@ -200,11 +200,8 @@ class RightPapersTest(PaperCase):
         self.deep(league, "fig", 8, "always", text.replace("end", "bound"))
 
     def deep(self, league, side, place, claim, text):
-        frame, many = sys._getframe(), 0
-        while frame is not None:
-            frame, many = frame.f_back, many + 1
         before = sys.getrecursionlimit()
-        sys.setrecursionlimit(many + 100)
+        sys.setrecursionlimit(nested_calls() + 100)
         try:
             self.taken(league, side, place, claim, text)
         finally:
