@@ -4,6 +4,8 @@ from stillmay.errors import BadSide, BadValue, TooMany
 
 LETTERS = "abcdefghijklmnopqrstuvwxyz"
 LONGEST_NAME = 8
+FIGURES = "0123456789"
+MOST_FIGURES = 9
 OUTCOMES = ("home", "draw", "away")
 # Where all endings are walked through, no more games than these may be left.
 MOST_LEFT = 8
@@ -24,12 +26,20 @@ def is_number(value):
     return is_integer(value) and value >= 0
 
 
+def is_pair(value):
+    """Whether it is a sequence of two, whatever these are."""
+    return is_sequence(value) and len(value) == 2
+
+
+def is_word(text):
+    """Whether this string is one small letter or more, and nothing else."""
+    return text != "" and all([sign in LETTERS for sign in text])
+
+
 def is_name(value):
     """Whether it is a word of small letters that is not too long."""
     # The length comes first: a long string need not be read.
-    if not isinstance(value, str) or not 1 <= len(value) <= LONGEST_NAME:
-        return False
-    return all([sign in LETTERS for sign in value])
+    return isinstance(value, str) and len(value) <= LONGEST_NAME and is_word(value)
 
 
 def are_names(values):
@@ -37,6 +47,12 @@ def are_names(values):
     if not is_sequence(values) or not all([is_name(value) for value in values]):
         return False
     return len(set(values)) == len(values)
+
+
+def parted_lines(text):
+    """The lines of a text that have a line feed, without it, and what stands behind the last line feed."""
+    lines = text.split("\n")
+    return lines[:-1], lines[-1]
 
 
 def outcomes_of(league):

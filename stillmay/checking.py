@@ -1,6 +1,6 @@
 """The checking of papers, one line at a time, without any search for endings or pairings."""
 
-from stillmay.basics import check_place, position
+from stillmay.basics import check_place, parted_lines, position
 from stillmay.errors import BadPaper, BadValue
 from stillmay.meetings import asked_meetings, is_barrier, partners, without
 from stillmay.trees import CLAIMS, TreeWalk
@@ -107,9 +107,7 @@ def _check_lines(paper, reader):
     """Raise BadPaper at the first line that the reader does not take, or that lacks."""
     if not isinstance(paper, str):
         raise BadPaper(0)
-    lines = paper.split("\n")
-    # What stands behind the last line feed is a line without one, or nothing.
-    unended = lines.pop()
+    lines, unended = parted_lines(paper)
     for number, line in enumerate(lines):
         if reader.is_whole() or not reader.takes(line):
             raise BadPaper(number)

@@ -2,7 +2,7 @@
 
 from itertools import combinations
 
-from stillmay.basics import are_names, is_sequence
+from stillmay.basics import are_names, is_pair, is_sequence
 from stillmay.errors import BadValue
 
 # How many sides may be paired.
@@ -58,7 +58,7 @@ def _is_order(order):
 
 
 def _is_meeting(order, pair):
-    if not is_sequence(pair) or len(pair) != 2:
+    if not is_pair(pair):
         return False
     return pair[0] in order and pair[1] in order and pair[0] != pair[1]
 

@@ -34,6 +34,11 @@ def deep(levels):
     return value
 
 
+def as_lists(value):
+    """The same with lists in the place of all tuples."""
+    return [as_lists(part) for part in value] if isinstance(value, tuple) else value
+
+
 def made(sides=TRIO, scheme=WITH_DRAWS, rules=PLAIN, games=()):
     """A league with these games: triples (home, away, state)."""
     league = League(sides, scheme, rules)

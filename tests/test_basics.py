@@ -3,11 +3,11 @@
 import sys
 import unittest
 
-from stillmay import checking, cuts, pairings, papers, standings, ways
+from stillmay import checking, cuts, desk, divisions, fixtures, knockouts, pairings, papers, standings, ways
 from stillmay.errors import LeagueError
 from stillmay.leagues import League
-from tests.helper import (ALL_RULES, EIGHT, OUTCOMES, PLAIN, TEN, TRIO, WITH_DRAWS, WITHOUT_DRAWS, caught, deep,
-                          made, nested_calls, snapshot, with_left)
+from tests.helper import (ALL_RULES, EIGHT, OUTCOMES, PLAIN, TEN, TRIO, WITH_DRAWS, WITHOUT_DRAWS, as_lists, caught,
+                          deep, made, nested_calls, snapshot, with_left)
 
 GAMES = [("ash", "elm", "home"), ("elm", "oak", "left"), ("oak", "ash", "draw"), ("oak", "elm", "left"),
          ("ash", "oak", "off")]
@@ -28,12 +28,37 @@ CALLS = (
     (papers.always_paper, {"side": "elm", "place": 3}, str),
     (checking.paper_holds, {"side": "elm", "place": 3, "claim": "always", "paper": "bound\n"}, bool),
     (pairings.met_in, {}, tuple), (pairings.next_round, {}, tuple),
+    (fixtures.put_in, {"rounds": ((("ash", "elm"),), (("elm", "oak"), ("oak", "ash")))}, tuple),
 )
+
+FOUR = EIGHT[:4]
+ROUNDS = ((("ash", "elm"), ("oak", "fir")), (("oak", "ash"), ("elm", "fir")), (("ash", "fir"), ("elm", "oak")))
+LOG = "game ash elm\ngame elm oak\nenter 0 home\nundo\ntable\noff 9\n"
+# Functions of which the first argument is no league, or which take two of them.
+MORE_CALLS = (
+    (fixtures.is_fixtures, {"sides": FOUR, "rounds": ROUNDS}, bool), (fixtures.drawn_up, {"sides": FOUR}, tuple),
+    (fixtures.breaks, {"sides": FOUR, "rounds": ROUNDS}, tuple), (fixtures.returned, {"rounds": ROUNDS}, tuple),
+    (fixtures.break_count, {"sides": FOUR, "rounds": ROUNDS}, int),
+    (fixtures.pattern, {"sides": FOUR, "rounds": ROUNDS, "side": "elm"}, str), (knockouts.draw, {"sides": FOUR}, tuple),
+    (knockouts.rounds_to_meet, {"sides": FOUR, "one": "ash", "other": "oak"}, int),
+    (knockouts.play, {"sides": FOUR, "winners": ("ash", "elm", "ash")}, tuple),
+    (divisions.moved, {"upper": made(games=GAMES), "lower": made(("fir", "yew")), "many": 1}, tuple),
+    (divisions.sure_up, {"lower": made(games=GAMES), "many": 2}, tuple),
+    (divisions.may_up, {"lower": made(games=GAMES), "many": 1}, tuple),
+    (divisions.sure_down, {"upper": made(games=GAMES), "many": 2}, tuple),
+    (divisions.may_down, {"upper": made(games=GAMES), "many": 1}, tuple),
+    (desk.replayed, {"sides": TRIO, "scheme": WITH_DRAWS, "rules": PLAIN, "log": LOG}, desk.Desk),
+)
+
+
+def plain(value):
+    """The value, or of a desk what it tells."""
+    return value.log() + value.tell("table") + value.tell("left") if isinstance(value, desk.Desk) else value
 
 
 class KindsTest(unittest.TestCase):
     def check_kind(self, value):
-        self.assertIn(value.__class__, (int, str, bool, tuple, None.__class__, League))
+        self.assertIn(value.__class__, (int, str, bool, tuple, None.__class__, League, desk.Desk))
         if isinstance(value, tuple):
             for part in value:
                 self.check_kind(part)
@@ -44,6 +69,13 @@ class KindsTest(unittest.TestCase):
                 found = call(made(games=GAMES), **more)
                 self.assertIs(kind, found.__class__)
                 self.check_kind(found)
+
+        for call, given, kind in MORE_CALLS:
+            for handed in (given, {name: as_lists(value) for name, value in given.items()}):
+                with self.subTest(call=call):
+                    found = call(**handed)
+                    self.assertIs(kind, found.__class__)
+                    self.check_kind(found)
 
     def test_a_method_without_a_result_returns_none(self):
         league = made(games=GAMES)
@@ -56,9 +88,16 @@ class ArgumentsTest(unittest.TestCase):
         for call, more, kind in CALLS:
             with self.subTest(call=call):
                 league = made(games=GAMES)
-                self.assertEqual(call(league, *more.values()), call(league=league, **more))
+                due = call(league.copy(), *more.values())
+                self.assertEqual(due, call(league=league.copy(), **more))
                 mixed = dict(list(more.items())[::-1])
-                self.assertEqual(call(league, *more.values()), call(**mixed, league=league))
+                self.assertEqual(due, call(**mixed, league=league.copy()))
+
+    def test_more_calls_by_position_and_by_name(self):
+        for call, given, kind in MORE_CALLS:
+            with self.subTest(call=call):
+                mixed = dict(list(given.items())[::-1])
+                self.assertEqual(plain(call(*given.values())), plain(call(**mixed)))
 
     def test_methods_by_name(self):
         league = League(rules=["points"], scheme=[3, 1, 0], sides=["ash", "elm"])
@@ -77,11 +116,24 @@ class ArgumentsTest(unittest.TestCase):
             for rules in (PLAIN, ("points", "among")):
                 league = made(rules=rules, games=GAMES)
                 before = snapshot(league)
-                handed = {name: list(value) if isinstance(value, tuple) else value for name, value in more.items()}
+                handed = {name: as_lists(value) for name, value in more.items()}
                 call(league, **handed)
-                self.assertEqual(before, snapshot(league), call)
+                if call is not fixtures.put_in:
+                    self.assertEqual(before, snapshot(league), call)
                 for name, value in more.items():
-                    self.assertEqual(list(value) if isinstance(value, tuple) else value, handed[name])
+                    self.assertEqual(as_lists(value), handed[name])
+        for call, given, kind in MORE_CALLS:
+            handed = {name: value.copy() if isinstance(value, League) else as_lists(value)
+                      for name, value in given.items()}
+            found = plain(call(**handed))
+            for name, value in given.items():
+                self.assertEqual(as_lists(value), handed[name])
+                if isinstance(value, League):
+                    handed[name].withdraw(value.sides()[0])
+                elif isinstance(value, tuple):
+                    handed[name].clear()
+            # Later changes to what was handed in have no effect.
+            self.assertEqual(found, plain(call(**given)))
 
     def test_later_changes_have_no_effect(self):
         league = made(games=GAMES)
@@ -99,10 +151,10 @@ class ArgumentsTest(unittest.TestCase):
             other.call_off(4)
             other.reopen(1)
             self.assertEqual(league, other)
-            first = call(league, **more)
-            self.assertEqual(first, call(league, **more))
-            self.assertEqual(first, call(other, **more))
+            first = call(league.copy(), **more)
             self.assertEqual(first, call(league.copy(), **more))
+            self.assertEqual(first, call(other, **more))
+            self.assertEqual(first, call(league, **more))
 
 
 class RaisingCallsTest(unittest.TestCase):
@@ -114,7 +166,10 @@ class RaisingCallsTest(unittest.TestCase):
                  (league.enter, 9, "home"), (league.enter, 0, "home"), (league.enter, 1, "no"), (league.call_off, 0),
                  (league.reopen, 2), (league.reopen, True), (league.withdraw, "ash"), (league.withdraw, ["elm"]),
                  (standings.points, league, "no"), (standings.points_among, league, "elm", "no"),
-                 (ways.ended, league, ("home", "no")), (ways.sure, league, "elm", 4), (ways.needs, league, "no", 0))
+                 (ways.ended, league, ("home", "no")), (ways.sure, league, "elm", 4), (ways.needs, league, "no", 0),
+                 (fixtures.put_in, league, [[("elm", "oak")], [("elm", "ash")]]), (fixtures.put_in, league, None),
+                 (divisions.moved, league, league, 0), (divisions.moved, made(("fir", "yew")), league, 2),
+                 (divisions.sure_up, league, 3), (divisions.may_down, league, -1))
         for call in calls:
             self.assertIsInstance(caught(*call), LeagueError, call)
             self.assertEqual(before, snapshot(league))
@@ -169,6 +224,31 @@ class LimitsTest(unittest.TestCase):
             self.assertIsInstance(caught(pairings.pairing, TEN, deep(40)), LeagueError)
             self.assertIsInstance(caught(cuts.cut_holds, few, "fig", deep(40)), LeagueError)
             self.assertIsInstance(caught(checking.paper_holds, few, "fig", 8, "always", deep(40)), LeagueError)
+        finally:
+            sys.setrecursionlimit(before)
+
+    def test_calls_about_fixtures_knockouts_divisions_and_the_desk_neither(self):
+        league = made(EIGHT, games=[("ash", "elm", "left")] * 8)
+        before = sys.getrecursionlimit()
+        sys.setrecursionlimit(nested_calls() + 200)
+        try:
+            rounds = fixtures.drawn_up(EIGHT)
+            fixtures.break_count(EIGHT, rounds)
+            fixtures.pattern(EIGHT, rounds, "fig")
+            fixtures.put_in(made(EIGHT), fixtures.returned(rounds))
+            self.assertIs(False, fixtures.is_fixtures(EIGHT, deep(40)))
+            knockouts.play(EIGHT, knockouts.draw(EIGHT)[::2])
+            knockouts.rounds_to_meet(EIGHT, "ash", "elm")
+            divisions.moved(league, made(("pine", "a")), 1)
+            for call in (divisions.sure_up, divisions.may_up, divisions.sure_down, divisions.may_down):
+                call(league, 3)
+            log = "game ash elm\n" * 80 + "enter 3 home\n" * 2000 + "undo\n" * 2081
+            self.assertEqual(log, desk.replayed(TRIO, WITH_DRAWS, PLAIN, log).log())
+            for call in ((fixtures.drawn_up, deep(40)), (fixtures.breaks, FOUR, deep(40)), (knockouts.draw, deep(40)),
+                         (fixtures.put_in, league, deep(40)), (knockouts.play, FOUR, deep(40)),
+                         (knockouts.rounds_to_meet, FOUR, "ash", deep(40)), (divisions.sure_up, league, deep(40)),
+                         (desk.Desk, TRIO, WITH_DRAWS, deep(40)), (desk.replayed, TRIO, WITH_DRAWS, PLAIN, deep(40))):
+                self.assertIsInstance(caught(*call), LeagueError)
         finally:
             sys.setrecursionlimit(before)
 

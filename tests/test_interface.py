@@ -35,13 +35,32 @@ INTERFACE = {
         "pairing": ("order", "met"), "barrier": ("order", "met"), "pairing_paper": ("order", "met"),
         "met_in": ("league",), "next_round": ("league",),
     },
+    "fixtures": {
+        "is_fixtures": ("sides", "rounds"), "drawn_up": ("sides",), "breaks": ("sides", "rounds"),
+        "break_count": ("sides", "rounds"), "pattern": ("sides", "rounds", "side"), "returned": ("rounds",),
+        "put_in": ("league", "rounds"),
+    },
+    "knockouts": {
+        "draw": ("sides",), "rounds_to_meet": ("sides", "one", "other"), "play": ("sides", "winners"),
+    },
+    "divisions": {
+        "moved": ("upper", "lower", "many"), "sure_up": ("lower", "many"), "may_up": ("lower", "many"),
+        "sure_down": ("upper", "many"), "may_down": ("upper", "many"),
+    },
+    "desk": {
+        "Desk": ("sides", "scheme", "rules"), "replayed": ("sides", "scheme", "rules", "log"),
+    },
 }
 
 METHODS = {
-    "sides": (), "scheme": (), "rules": (), "add_game": ("home", "away"), "enter": ("number", "outcome"),
-    "call_off": ("number",), "reopen": ("number",), "withdraw": ("side",), "games": (), "left": (),
-    "withdrawn": (), "copy": (), "__eq__": None,
+    "League": {
+        "sides": (), "scheme": (), "rules": (), "add_game": ("home", "away"), "enter": ("number", "outcome"),
+        "call_off": ("number",), "reopen": ("number",), "withdraw": ("side",), "games": (), "left": (),
+        "withdrawn": (), "copy": (), "__eq__": None,
+    },
+    "Desk": {"tell": ("line",), "log": ()},
 }
+FILES = {"League": "leagues", "Desk": "desk"}
 
 
 class InterfaceTest(unittest.TestCase):
@@ -55,13 +74,14 @@ class InterfaceTest(unittest.TestCase):
                     if arguments is not None:
                         self.assertEqual(arguments, tuple(inspect.signature(found).parameters))
 
-    def test_methods_of_a_league(self):
-        module = importlib.import_module("stillmay.leagues")
-        for name, arguments in METHODS.items():
-            with self.subTest(name=name):
-                method = vars(module.League)[name]
-                if arguments is not None:
-                    self.assertEqual(("self",) + arguments, tuple(inspect.signature(method).parameters))
+    def test_methods(self):
+        for class_name, methods in METHODS.items():
+            found = getattr(importlib.import_module("stillmay." + FILES[class_name]), class_name)
+            for name, arguments in methods.items():
+                with self.subTest(of=class_name, name=name):
+                    method = vars(found)[name]
+                    if arguments is not None:
+                        self.assertEqual(("self",) + arguments, tuple(inspect.signature(method).parameters))
 
 
 if __name__ == "__main__":
